@@ -202,21 +202,6 @@ func TestP14_2Measure(t *testing.T) {
 	}
 }
 
-func TestP14_2LastNumber(t *testing.T) {
-	a := running(t, 2)
-	a.seq = edge - 2
-	if n, e := a.Measure(1, 1, m); n != edge-2 || e != api.OK {
-		t.Error(n, e)
-	}
-	if n, e := a.Measure(1, 1, m); n != -1 || e != api.ErrLong {
-		t.Error(n, e)
-	}
-	a.Measure(1, 1, m)
-	if list := sent(t, a, 2); len(list) != 2 || list[0].Next != edge-2 || list[1].Next != edge-1 || a.Dropped() != 0 {
-		t.Error(list)
-	}
-}
-
 func TestP14_3Grant(t *testing.T) {
 	a, _ := New(3, 2)
 	a.Start(4)

@@ -148,9 +148,10 @@ func wrongRecords() []Record {
 		batch(3, 1, 0, 0, ev(-1, 1)), batch(3, 1, 0, 0, ev(top+1, 1)), batch(3, 1, 0, 0, frame.Event{}), beat(3, 1, edge+1, 0, 0), beat(3, 1, -1, 0, 0), beat(3, 1, 0, -1, 0), beat(3, 1, 0, top+1, 0), beat(3, 1, 0, 0, -1),
 		tick(-1), tick(top + 1), {Kind: RSunk, Next: -1}, {Kind: RSunk, Next: edge + 1},
 	}
+	places := map[int][]int{RGrant: {0, 2, 5}, RSample: {0, 1}, RBatch: {0, 1, 3, 5}, RBeat: {0, 1, 3, 4, 5}, RTick: {5}, RSunk: {3}}
 	for _, r := range []Record{{Kind: RBoot}, grant(3, 1, 5), sample(3, 1, clock.Sample{}), batch(3, 1, 0, 5, ev(1, 1)), beat(3, 1, 0, 5, 5), tick(5), {Kind: RSunk, Next: 5}} {
 		for at, v := range []*int64{&r.Agent, &r.Epoch, &r.Boot, &r.Next, &r.Stamp, &r.Now} {
-			if !slices.Contains(fields(r.Kind), at) {
+			if !slices.Contains(places[r.Kind], at) {
 				*v = 1
 				list = append(list, r)
 				*v = 0
@@ -237,7 +238,10 @@ func TestP24_2Boot(t *testing.T) {
 	if s.Boots() != 2 {
 		t.Error(s.Boots())
 	}
-	s.boots = edge - 1
+	s, e := Parse(config(), slices.Concat(code.Uints(0, edge-1, 0, 0), code.Ints(-100), []byte{0, 0, 0}))
+	if e != api.OK {
+		t.Fatal(e)
+	}
 	do(t, s, Record{Kind: RBoot}, api.OK)
 	do(t, s, Record{Kind: RBoot}, api.ErrLong)
 }

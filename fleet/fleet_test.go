@@ -270,13 +270,9 @@ func TestP27_2Readings(t *testing.T) {
 	}
 	bad := label.Series{}
 	f.Run(at(10), measure(3, 8, 1), measure(3, 6, 1), measure(3, -1, 1), Entry{Kind: KMeasure, Agent: 3, Reading: 9, Series: bad}, step(3, api.MaxTime+1), step(3, 10))
-	// Errors of the frame itself don't matter: a probe before a grant, an acknowledgement of too much.
-	ack, _ := frame.Encode(frame.Frame{Head: frame.Head{Kind: frame.FAck, Agent: 3, Epoch: 1}, Next: 99})
-	f.wire.Put(struct {
-		Up          bool
-		Agent, Sent int64
-		Bytes       []byte
-	}{false, 3, 10, ack})
+	// Errors of the frame itself don't matter: here it acknowledges what was forged, and never measured.
+	b, _ := frame.Encode(frame.Frame{Head: frame.Head{Kind: frame.FBatch, Agent: 3, Epoch: 1}, Events: []frame.Event{{Series: m}, {Series: m}, {Series: m}}})
+	run(t, f, forge(3, b), arrive(f.Wire().Next(), 0), sync)
 	last := f.Wire().Next() - 1
 	if e := f.Do(arrive(last, 12)); e != api.ErrRange {
 		t.Error(e)

@@ -120,7 +120,7 @@ func TestP8_2Text(t *testing.T) {
 			t.Error(i, s, ok)
 		}
 	}
-	if len(most.Text()) != longest {
+	if len(most.Text()) != 1105 {
 		t.Error(len(most.Text()))
 	}
 	for _, s := range []Series{{}, {"m", []Label{{"b", ""}, {"a", ""}}}, {"M", nil}} {

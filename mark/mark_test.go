@@ -33,6 +33,15 @@ func try(t *testing.T, m *Mark, want api.Errno, call func() api.Errno) {
 	}
 }
 
+// agents is how many are registered.
+func agents(m *Mark) int {
+	n := 0
+	for range m.All() {
+		n++
+	}
+	return n
+}
+
 func TestP20_1New(t *testing.T) {
 	for _, lag := range []int64{0, -1, edge + 1, math.MinInt64, math.MaxInt64} {
 		if m, e := New(lag); m != nil || e != api.ErrRange {
@@ -200,7 +209,7 @@ func TestP20_2Set(t *testing.T) {
 		{50, -50, nil, 0}, {50, 50, map[int64]Floor{}, 0}, {top, top, map[int64]Floor{3: {top, true, false, true}, 0: {0, false, true, false}}, 0},
 	} {
 		try(t, m, c.want, func() api.Errno { return m.Set(c.now, c.value, c.agents) })
-		if c.want == api.OK && (m.Now() != c.now || m.Value() != c.value || len(m.floors) != len(c.agents)) {
+		if c.want == api.OK && (m.Now() != c.now || m.Value() != c.value || agents(m) != len(c.agents)) {
 			t.Error(c, m)
 		}
 		m.Join(7, 7)

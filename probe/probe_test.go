@@ -2,7 +2,6 @@ package probe
 
 import (
 	"math"
-	"reflect"
 	"slices"
 	"testing"
 
@@ -139,10 +138,9 @@ func TestP16_3Forget(t *testing.T) {
 	if !slices.Equal(counts(p), []int64{0, 2, 3, 5}) || p.Boot() != 4 {
 		t.Error("shared")
 	}
-	q := start(t, 3)
 	p.Forget(0)
 	p.Forget(2)
-	if len(p.Out()) != 0 || !reflect.DeepEqual(p.last, q.last) {
-		t.Error(p)
+	if len(p.Out()) != 0 || !p.Due(0, 5, 100) || !p.Due(2, 5, 100) {
+		t.Error(p.Out())
 	}
 }

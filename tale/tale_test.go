@@ -1,7 +1,9 @@
 package tale
 
 import (
+	"bytes"
 	"math"
+	"reflect"
 	"strings"
 	"testing"
 
@@ -20,6 +22,13 @@ func config() fleet.Config {
 func parsed(text string) label.Series {
 	s, _ := label.Parse(text)
 	return s
+}
+
+// equal tells whether two entries are equal; an empty list equals none.
+func equal(a, b fleet.Entry) bool {
+	one, two := label.Compare(a.Series, b.Series), bytes.Compare(a.Bytes, b.Bytes)
+	a.Series, b.Series, a.Bytes, b.Bytes = label.Series{}, label.Series{}, nil, nil
+	return one == 0 && two == 0 && reflect.DeepEqual(a, b)
 }
 
 type pair struct {
@@ -47,7 +56,7 @@ func TestP29_1Lines(t *testing.T) {
 		if line, ok := Line(p.e); line != p.line || !ok {
 			t.Error(i, line, ok)
 		}
-		if e, ok := Read(p.line); !same(e, p.e) || !ok {
+		if e, ok := Read(p.line); !equal(e, p.e) || !ok {
 			t.Error(i, e, ok)
 		}
 	}
@@ -66,7 +75,7 @@ func TestP29_1NoLine(t *testing.T) {
 			e := p.e
 			*set(&e) = 1
 			// A field that the kind has changes the line; one that it doesn't have leaves none.
-			if line, ok := Line(e); ok && line == p.line && !same(e, p.e) {
+			if line, ok := Line(e); ok && line == p.line && !equal(e, p.e) {
 				t.Error(e, line)
 			}
 		}
@@ -107,7 +116,7 @@ func TestP29_1ReadWrong(t *testing.T) {
 		"forge 3 " + strings.Repeat("0", 2*4096+2), "sync 1", "sink 0", "crash", "crash x", "crash 1 2", "crash 9223372036854775808",
 	}
 	for _, line := range list {
-		if e, ok := Read(line); ok || !same(e, fleet.Entry{}) || e.Bytes != nil {
+		if e, ok := Read(line); ok || !equal(e, fleet.Entry{}) || e.Bytes != nil {
 			t.Errorf("%q %v", line, e)
 		}
 	}
@@ -131,7 +140,7 @@ func TestP29_1Show(t *testing.T) {
 		t.Fatal(line, e)
 	}
 	for i := range list {
-		if !same(list[i], entries[i]) {
+		if !equal(list[i], entries[i]) {
 			t.Error(i, list[i])
 		}
 	}
@@ -216,9 +225,6 @@ func TestP29_3Reasons(t *testing.T) {
 	want := "3 1 0 wide 0 9 13\n3 1 1 wide 0 11 15\n3 1 2 full 0 12 15\n3 1 3 full 0 12 15\n3 1 4 counted 1 13 15\n3 1 5 held 0 0 0\n"
 	if !strings.HasPrefix(report, want) {
 		t.Error(report)
-	}
-	if reason(1) != "late" || reason(5) != "stale" || reason(6) != "form" {
-		t.Error("words")
 	}
 }
 

@@ -1,6 +1,7 @@
 package whole
 
 import (
+	"fmt"
 	"slices"
 	"testing"
 
@@ -13,6 +14,7 @@ import (
 	"noonmark/shelf"
 	"noonmark/tale"
 	"noonmark/truth"
+	"noonmark/wide"
 )
 
 // trusted checks that no clock of an honest boot is held.
@@ -283,6 +285,40 @@ func TestP8AsText(t *testing.T) {
 		report, _, e := tale.Play(c, text)
 		if want := tale.Report(w.f); report != want || want == "" || e != api.OK {
 			t.Fatal(seed, report, want)
+		}
+	}
+}
+
+func TestP29_3Report(t *testing.T) {
+	words := []string{"counted", "late", "held", "wide", "full", "stale", "form"}
+	var tally ledger.Tally
+	for seed := range int64(60) {
+		c := config(10000, int(seed%4))
+		c.Lag, c.Most, c.Cells, c.Hold = 60, 20, 6, 8
+		w := newWorld(t, 100+seed, c, 3)
+		for range 1200 {
+			w.chaos(60, 30, []int64{2})
+			if w.r.Intn(15) == 0 {
+				w.forge(2)
+			}
+		}
+		want := ""
+		for id, said := range w.f.Verdicts() {
+			tally[said.Verdict.Reason]++
+			want += fmt.Sprintln(id.Agent, id.Epoch, id.Seq, words[said.Verdict.Reason], said.Verdict.Window, said.Span.Lo, said.Span.Hi)
+		}
+		for i, b := range w.f.Sink() {
+			f, _ := frame.Decode(b)
+			x, _ := cell.Back(f.Data)
+			want += fmt.Sprintln("emit", i, f.Window, f.Series.Text(), x.Count, wide.Text(x.Sum), x.Min, x.Max, x.Certain, x.Possible)
+		}
+		if report := tale.Report(w.f); report != want {
+			t.Fatal(report, want)
+		}
+	}
+	for reason, n := range tally {
+		if n == 0 {
+			t.Error("never seen", reason, tally)
 		}
 	}
 }
