@@ -357,4 +357,25 @@ func TestP14_5Memory(t *testing.T) {
 	if c.Boot() != 1 {
 		t.Error("boot")
 	}
+	a = running(t, 10)
+	for i := range int64(5) {
+		a.Measure(5, i, m)
+	}
+	a.Take(5, probed(t, 3, 1, 1))
+	a.Take(5, probed(t, 3, 1, 2))
+	c = a.Clone()
+	a.Take(5, ack(t, 3, 7, 2))
+	a.Take(5, probed(t, 3, 1, 3))
+	c.Take(5, probed(t, 3, 1, 4))
+	for i, e := range c.Kept() {
+		if e.Value != int64(i) {
+			t.Error(i, e)
+		}
+	}
+	if list := sent(t, a, 5); len(list) != 5 || list[2].Count != 3 || len(list[3].Events) != 3 {
+		t.Error(list)
+	}
+	if list := sent(t, c, 5); len(list) != 5 || list[2].Count != 4 || len(list[3].Events) != 5 {
+		t.Error(list)
+	}
 }

@@ -216,10 +216,15 @@ func TestP21_2BackWrong(t *testing.T) {
 	sum := code.Texts(string(wide.Bytes(wide.Of(2))))
 	head := slices.Concat(code.Uints(2, 0, 0), code.Ints(1, 1), sum)
 	with := func(list ...uint64) []byte { return slices.Concat(head, code.Uints(list...)) }
+	two := slices.Concat(code.Uints(2, 0, 0), code.Ints(1, 2), sum)
+	if _, e := Back(append(slices.Clone(two), code.Uints(2, 2, 1, 3, 1)...)); e != api.OK {
+		t.Error(e)
+	}
 	for i, k := range []struct {
 		b   []byte
 		err api.Errno
 	}{
+		{append(slices.Clone(two), code.Uints(2, 3, 1, 2, 1)...), api.ErrForm}, {append(slices.Clone(two), code.Uints(3, 2, 1, 2, 1, 3, 1)...), api.ErrForm}, {append(slices.Clone(two), code.Uints(3, 2, 1, 3, 1, 3, 1)...), api.ErrForm},
 		{nil, api.ErrEnd}, {with(1, 2, 2), 0}, {with(1, 2, 1), api.ErrForm}, {with(2, 2, 1, 2, 1), api.ErrForm}, {with(2, 3, 1, 2, 1), api.ErrForm}, {with(2, 2, 2, 3, 0), api.ErrForm}, {with(2, 2, 2, 65, 1), api.ErrForm},
 		{with(2, 2, 2, math.MaxUint64, 1), api.ErrForm}, {with(2, 2, 2, 64, 1<<63), api.ErrForm}, {with(66), api.ErrLong}, {with(65), api.ErrEnd}, {with(1, 2), api.ErrEnd}, {with(3, 9, 1, 2, 1, 3), api.ErrEnd},
 		{with(3, 2, 2, 3, 0), api.ErrEnd}, {append(with(1, 2), 0x80, 0), api.ErrForm}, {append(with(2, 9, 9, 2), 0x80), api.ErrEnd}, {with(1, 2, 2, 7), api.ErrForm}, {with(1, 3, 2), api.ErrForm},

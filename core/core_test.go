@@ -100,6 +100,12 @@ func verdicts(effects []Effect) []int64 {
 	return list
 }
 
+func TestP24_1Kinds(t *testing.T) {
+	if RBoot != 1 || RGrant != 2 || RSample != 3 || RBatch != 4 || RBeat != 5 || RTick != 6 || RSunk != 7 || EGrant != 1 || EAck != 2 || EVerdict != 3 || EEmit != 4 {
+		t.Error("kinds")
+	}
+}
+
 func TestP24_1Config(t *testing.T) {
 	for i, change := range []func(c *Config){
 		func(c *Config) {}, func(c *Config) { c.Width, c.Policy, c.Most = edge, 3, top }, func(c *Config) { c.Lag, c.Rho, c.Trust = edge, 100000, 100 },
@@ -458,6 +464,15 @@ func TestP24_2Beat(t *testing.T) {
 	at(0, 9, 22, 10, 9)
 	at(0, 10, 23, 10, 9)
 	at(0, 60, 24, 10, 9)
+	// The greatest stamp so far may be that of an event that was too early, and a beat may have it too.
+	do(t, s, batch(3, 1, 0, 24, ev(25, 1)), api.OK)
+	if a, _ := s.Agent(3); a.Last != 25 || a.Floor.At != 24 {
+		t.Error(a)
+	}
+	s = trusted(t, config())
+	do(t, s, batch(3, 1, 0, 20, ev(30, 1)), api.OK)
+	at(1, 30, 40, 30, 29)
+	s = trusted(t, config())
 	at(0, 25, 25, 25, 24)
 	do(t, s, sample(3, 1, clock.Sample{Asked: 26, Got: 90, Sent: 90, Came: 26}), api.OK)
 	at(0, 91, 27, 25, 24)
@@ -605,6 +620,17 @@ func TestP24_4ParseWrong(t *testing.T) {
 	if _, e := Parse(config(), with(waits(5, 6, 8))); e != api.OK {
 		t.Error(e)
 	}
+	for stamp, want := range map[uint64]api.Errno{0: 0, top: 0, top + 1: api.ErrForm, 1 << 63: api.ErrForm} {
+		b := slices.Concat(code.Uints(0, 0, 0, 0, 1, 1, stamp), code.Ints(1), code.Texts("m"), []byte{0})
+		if _, e := Parse(config(), with(agent(3, 1, 1, 5, 5, 0, -1, b))); e != want {
+			t.Error(stamp, e)
+		}
+	}
+	for _, b := range [][]byte{state(top, 0, 0, top, top, zero, zero, zero), state(top, 0, 0, 0, 0, zero, zero, zero)} {
+		if _, e := Parse(config(), b); e != api.OK {
+			t.Error(e)
+		}
+	}
 	for i, b := range [][]byte{
 		state(1<<62, 0, 0, 0, 0, zero, zero, zero), state(1<<63, 0, 0, 0, 0, zero, zero, zero), state(9, edge+1, 0, 5, 5, zero, zero, zero), state(9, 0, edge+1, 5, 5, zero, zero, zero), state(9, 0, 1<<63, 5, 5, zero, zero, zero),
 		state(9, 0, 0, 10, 5, zero, zero, zero), state(9, 0, 0, 5, 6, zero, zero, zero), state(9, 0, 0, 5, -96, zero, zero, zero), state(9, 0, 0, 1<<63, 5, zero, zero, zero),
@@ -650,5 +676,14 @@ func TestP24_4Memory(t *testing.T) {
 	do(t, c, Record{Kind: RSunk, Next: 1}, api.OK)
 	if len(verdicts(list)) != 6 || !bytes.Equal(before, s.Bytes()) {
 		t.Error("clone", list)
+	}
+	s = trusted(t, config())
+	do(t, s, batch(3, 1, 0, 40, ev(5, 1), ev(15, 2), ev(25, 3), ev(35, 4)), api.OK)
+	do(t, s, tick(50), api.OK)
+	before = s.Bytes()
+	do(t, s.Clone(), Record{Kind: RSunk, Next: 1}, api.OK)
+	s.Kept()[0].Window = 99
+	if !bytes.Equal(before, s.Bytes()) || len(s.Kept()) != 3 {
+		t.Error("emissions")
 	}
 }

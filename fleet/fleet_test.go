@@ -76,6 +76,15 @@ func trusted(t *testing.T, c Config) *Fleet {
 	return f
 }
 
+func TestP27_1Kinds(t *testing.T) {
+	kinds := []int{KTime, KBoot, KMeasure, KStep, KArrive, KLose, KDouble, KForge, KTick, KSync, KSink, KCrash}
+	for i, kind := range kinds {
+		if kind != i {
+			t.Error(i, kind)
+		}
+	}
+}
+
 func TestP27_1Right(t *testing.T) {
 	for i, c := range []struct {
 		change func(c *Config)
@@ -295,6 +304,18 @@ func TestP27_2Readings(t *testing.T) {
 	f.Readings(3, 1)[0].Clock = 99
 	if f.Readings(3, 1)[0].Clock != 0 {
 		t.Error("shared")
+	}
+}
+
+func TestP27_2Boots(t *testing.T) {
+	f := start(t, config())
+	var want []int64
+	for b := int64(5); b < 90; b += 7 {
+		run(t, f, boot(3, b), step(3, b), boot(4, b))
+		want = append(want, b)
+	}
+	if !slices.Equal(f.Boots(3), want) || len(f.Boots(4)) != 0 {
+		t.Error(f.Boots(3))
 	}
 }
 

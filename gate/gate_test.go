@@ -96,6 +96,12 @@ func trusted(t *testing.T, d *disk.Disk, o Options) *Gate {
 	return g
 }
 
+func TestP25_1Kinds(t *testing.T) {
+	if OFrame != 1 || OVerdict != 2 || OEmit != 3 {
+		t.Error("kinds")
+	}
+}
+
 func TestP25_1Right(t *testing.T) {
 	for i, c := range []struct {
 		change func(o *Options)

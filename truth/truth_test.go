@@ -147,6 +147,46 @@ func TestP28_1Late(t *testing.T) {
 	}
 }
 
+func TestP28_1LateThoughNotBehind(t *testing.T) {
+	// Agent 3's clock jumps by less than a rate of 100,000 allows, and more than the fleet's. While it is held, the watermark goes on without it.
+	c := config()
+	c.Trust, c.Lag, c.Period = 3, 1000, 20
+	f := start(t, c)
+	joined(t, f, 3, 0)
+	joined(t, f, 1, 0)
+	run(t, f, at(100), measure(3, 105, 1, "m"), fleet.Entry{Kind: fleet.KTick})
+	lose := func() {
+		for _, n := range f.Wire().Flying() {
+			p, _ := f.Wire().Of(n)
+			if x, _ := frame.Decode(p.Bytes); p.Agent == 3 && x.Kind == frame.FBatch {
+				run(t, f, fleet.Entry{Kind: fleet.KLose, Number: n})
+			}
+		}
+	}
+	for now := int64(100); now <= 180; now += 20 {
+		run(t, f, at(now), fleet.Entry{Kind: fleet.KTick})
+		for _, id := range []int64{1, 3} {
+			reading := now + 5*(id/3)
+			for _, n := range f.Wire().For(false, id) {
+				f.Do(fleet.Entry{Kind: fleet.KArrive, Number: n, Reading: reading})
+			}
+			run(t, f, fleet.Entry{Kind: fleet.KStep, Agent: id, Reading: reading})
+			lose()
+			for _, n := range f.Wire().For(true, id) {
+				f.Do(fleet.Entry{Kind: fleet.KArrive, Number: n})
+			}
+		}
+		run(t, f, fleet.Entry{Kind: fleet.KTick})
+	}
+	step(t, f, 3, 185)
+	said, ok := f.Of(f.Facts()[0].Id)
+	if !ok || said.Verdict.Reason != ledger.VLate || f.Lagged(3) {
+		t.Fatal(said, ok, f.Lagged(3))
+	}
+	look(t, f, 100000, Look{Facts: 1, Told: 1, Honest: 1, Spanned: 1, Late: 1})
+	look(t, f, 0, Look{Facts: 1, Told: 1})
+}
+
 func TestP28_1Forged(t *testing.T) {
 	f := start(t, config())
 	joined(t, f, 3, 0)
