@@ -144,7 +144,7 @@ func (s *State) sink(next int64) api.Errno {
 		return api.ErrRange
 	}
 	if next > s.sunk {
-		s.kept = slices.Delete(s.kept, 0, int(next-s.sunk))
+		s.kept = slices.Clone(s.kept[next-s.sunk:])
 		s.sunk = next
 	}
 	return api.OK

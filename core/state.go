@@ -61,7 +61,8 @@ func (s *State) Cells() func(yield func(shelf.Key, cell.Cell) bool) { return s.s
 func (s *State) Clone() *State {
 	c := *s
 	c.roll, c.mark, c.shelf = s.roll.Clone(), s.mark.Clone(), s.shelf.Clone()
-	c.kept = slices.Clone(s.kept)
+	// Emissions never change where they stand: both states may have the same ones, as long as neither appends there.
+	c.kept = slices.Clip(s.kept)
 	c.streams = maps.Clone(s.streams)
 	for agent, k := range s.streams {
 		c.streams[agent] = &stream{k.Clone(), k.buffer.Clone(), k.last}

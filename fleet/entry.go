@@ -116,8 +116,8 @@ func (e Entry) right() bool {
 
 // empty tells whether all fields are zero.
 func (e Entry) empty() bool {
-	numbers := [...]int64{e.Agent, e.Now, e.Reading, e.Boot, e.Value, e.Number, int64(e.Keep)}
-	return e.Kind == 0 && numbers == [len(numbers)]int64{} &&
+	numbers := [7]int64{e.Agent, e.Now, e.Reading, e.Boot, e.Value, e.Number, int64(e.Keep)}
+	return e.Kind == 0 && numbers == [7]int64{} &&
 		e.Series.Name == "" && len(e.Series.Labels) == 0 && len(e.Bytes) == 0
 }
 
