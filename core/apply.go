@@ -7,6 +7,7 @@ import (
 	"noonmark/frame"
 	"noonmark/gap"
 	"noonmark/ledger"
+	"noonmark/shelf"
 )
 
 // Apply applies a record, and returns what comes of it.
@@ -193,7 +194,7 @@ func (s *State) place(event frame.Event, span gap.Gap) ledger.Verdict {
 	if e != api.OK {
 		return ledger.Verdict{Reason: ledger.VWide}
 	}
-	if s.count(window, series, event.Value) != api.OK {
+	if s.shelf.Count(shelf.Key{Window: window, Series: series}, event.Value) != api.OK {
 		return ledger.Verdict{Reason: ledger.VFull}
 	}
 	return ledger.Verdict{Reason: ledger.VCounted, Window: window}

@@ -69,8 +69,3 @@ func (s *State) Clone() *State {
 	}
 	return &c
 }
-
-// count adds a value to a cell.
-func (s *State) count(window int64, series string, v int64) api.Errno {
-	return s.shelf.Count(shelf.Key{Window: window, Series: series}, v)
-}
