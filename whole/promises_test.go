@@ -7,9 +7,13 @@ import (
 
 	"noonmark/api"
 	"noonmark/cell"
+	"noonmark/clock"
+	"noonmark/code"
+	"noonmark/drift"
 	"noonmark/fleet"
 	"noonmark/frame"
 	"noonmark/grid"
+	"noonmark/label"
 	"noonmark/ledger"
 	"noonmark/shelf"
 	"noonmark/tale"
@@ -89,6 +93,72 @@ func TestP2P3P4Chaos(t *testing.T) {
 		if len(forged) == 0 {
 			w.folds()
 		}
+	}
+}
+
+// samples returns the samples of each agent's clock, out of the state's encoding.
+func (w *world) samples() map[int64][]clock.Sample {
+	r := code.New(w.f.State().Bytes())
+	long := func() int64 { return int64(r.Uint()) }
+	skip := func(n int) {
+		for range n {
+			r.Uint()
+		}
+	}
+	list := map[int64][]clock.Sample{}
+	skip(5)
+	for range r.Count(api.MaxAgents) {
+		agent := long()
+		skip(8)
+		for range r.Count(api.MaxSamples) {
+			list[agent] = append(list[agent], clock.Sample{Asked: long(), Got: long(), Sent: long(), Came: long()})
+		}
+		skip(1)
+		for range r.Count(api.MaxHold) {
+			skip(3)
+			label.Read(r)
+		}
+	}
+	if r.Err() != api.OK {
+		w.t.Fatal("encoding", r.Err())
+	}
+	return list
+}
+
+// narrow checks the width of the interval of an agent's clock by each of its samples, and tells whether there are some.
+func (w *world) narrow() bool {
+	seen := false
+	for agent, list := range w.samples() {
+		stamp := w.f.Agent(agent).Clock()
+		x, e := w.f.State().At(agent, stamp)
+		if e != api.OK {
+			continue
+		}
+		for _, s := range list {
+			far := max(stamp-s.Got, s.Got-stamp, stamp-s.Sent, s.Sent-stamp)
+			slack, _ := drift.Slack(far, w.c.Rho)
+			if int64(x.Width()) > s.Trip()+2*slack+4 {
+				w.t.Fatal("wide", agent, stamp, x, s)
+			}
+			seen = true
+		}
+	}
+	return seen
+}
+
+func TestP2Width(t *testing.T) {
+	seen := 0
+	for seed := range int64(12) {
+		w := newWorld(t, 800+seed, config([]int64{0, 100, 10000, 100000}[seed%4], 0), 3)
+		for range 800 {
+			w.chaos(30, 10, nil)
+			if w.narrow() {
+				seen++
+			}
+		}
+	}
+	if seen < 3000 {
+		t.Error(seen)
 	}
 }
 
