@@ -361,21 +361,22 @@ func TestP14_5Memory(t *testing.T) {
 	for i := range int64(5) {
 		a.Measure(5, i, m)
 	}
-	a.Take(5, probed(t, 3, 1, 1))
-	a.Take(5, probed(t, 3, 1, 2))
+	for n := range int64(5) {
+		a.Take(5, probed(t, 3, 1, n))
+	}
 	c = a.Clone()
 	a.Take(5, ack(t, 3, 7, 2))
-	a.Take(5, probed(t, 3, 1, 3))
-	c.Take(5, probed(t, 3, 1, 4))
+	a.Take(5, probed(t, 3, 1, 33))
+	c.Take(5, probed(t, 3, 1, 44))
 	for i, e := range c.Kept() {
 		if e.Value != int64(i) {
 			t.Error(i, e)
 		}
 	}
-	if list := sent(t, a, 5); len(list) != 5 || list[2].Count != 3 || len(list[3].Events) != 3 {
+	if list := sent(t, a, 5); len(list) != 8 || list[5].Count != 33 || len(list[6].Events) != 3 {
 		t.Error(list)
 	}
-	if list := sent(t, c, 5); len(list) != 5 || list[2].Count != 4 || len(list[3].Events) != 5 {
+	if list := sent(t, c, 5); len(list) != 8 || list[5].Count != 44 || len(list[6].Events) != 5 {
 		t.Error(list)
 	}
 }

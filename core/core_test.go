@@ -686,4 +686,13 @@ func TestP24_4Memory(t *testing.T) {
 	if !bytes.Equal(before, s.Bytes()) || len(s.Kept()) != 3 {
 		t.Error("emissions")
 	}
+	// Both go on with other emissions.
+	c = s.Clone()
+	do(t, c, batch(3, 1, 4, 70, ev(60, 5)), api.OK)
+	do(t, c, tick(400), api.OK)
+	do(t, s, batch(3, 1, 4, 70, ev(61, 6)), api.OK)
+	do(t, s, tick(400), api.OK)
+	if k, l := c.Kept(), s.Kept(); len(k) != 6 || len(l) != 5 || k[4].Max != 5 || l[4].Max != 6 {
+		t.Error(k, l)
+	}
 }
